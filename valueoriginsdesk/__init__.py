@@ -1,0 +1,1 @@
+"""Small programs, their runs, and where the values in a run come from."""

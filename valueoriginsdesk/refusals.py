@@ -1,0 +1,13 @@
+"""The errors behind the refusals, one for each."""
+
+
+class NotAProgram(Exception):
+    """The text is not a program's."""
+
+
+class NotAnInput(Exception):
+    """The list has too many numbers for an input, or one that is too small or too large."""
+
+
+class NoSuchLine(Exception):
+    """The program has no line with this number."""
