@@ -1,16 +1,25 @@
-"""The document's own example, as far as the calls of these promises go."""
+"""The document's own example, whole."""
 
 import unittest
 
-from tests.asking import EXAMPLE, RUN, SHOW, SIZE, TRACE, ask, inputs, program, shown, values
+from tests.asking import (
+    EXAMPLE, RUN, SHOW, SIZE, TRACE, ask, info, inputs, only, program, runonly, same, shown, step, texts, values,
+)
 from valueoriginsdesk.runner import answers
 
 
 class Example(unittest.TestCase):
     def test_each_answer(self):
-        told = ask(program(*EXAMPLE), inputs(3), RUN, values(3), values(5), SIZE, SHOW)
+        told = ask(
+            program(*EXAMPLE), inputs(3), RUN, values(3), values(5), step(8), info(6), only(0, 2, 4),
+            runonly(0, 1, 2, 3, 4, 7), same(7, 0, 1, 2, 3, 4, 7), same(7, 0, 1, 7), SIZE, SHOW,
+        )
         self.assertEqual(told, [
-            [8], [1], [0, 17, 2, 2, 6], [3, 3, 5, 6], [3, 1, 0, 0], [8, 2, 1, 17], shown(*EXAMPLE),
+            [8], [1], [0, 17, 2, 2, 6], [3, 3, 5, 6], [3, 1, 0, 0],
+            [3, 5, 8, 2, 4, 5] + texts("s", "a"),
+            [3, 0] + texts("a") + [2, 2, 5],
+            shown("read a", "while 0 < a:", "  a = a - 1"),
+            [0, 13, 1, 6], [1], [0, 0], [8, 2, 1, 17], shown(*EXAMPLE),
         ])
 
     def test_rows_of_all_lines(self):
@@ -45,6 +54,17 @@ class Example(unittest.TestCase):
     def test_the_list_that_is_given_back(self):
         calls = program(*EXAMPLE) + inputs(3) + RUN + values(3) + values(8)
         self.assertEqual(answers(calls), [1, 8, 1, 1, 5, 0, 17, 2, 2, 6, 4, 3, 3, 5, 6, 1, -3])
+
+    def test_the_list_of_the_other_calls(self):
+        calls = program(*EXAMPLE) + inputs(3) + step(8) + info(6) + only(7) + runonly(0, 7) + same(7, 0, 1, 7)
+        self.assertEqual(answers(calls), [
+            1, 8, 1, 1,
+            11, 3, 5, 8, 2, 4, 5, 2, 1, 115, 1, 97,
+            8, 3, 0, 1, 1, 97, 2, 2, 5,
+            9, 8, 119, 114, 105, 116, 101, 32, 115, 10,
+            4, 0, 2, 1, 0,
+            2, 0, 0,
+        ])
 
 
 if __name__ == "__main__":

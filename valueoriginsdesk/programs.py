@@ -6,21 +6,46 @@ from valueoriginsdesk.statements import IF, is_header, read_statement
 MOST_STATEMENTS = 14
 MOST_DEPTH = 3
 ELSE = "else:"
+INDENT = "  "
 # Every sign that can stand in a program's text; a byte that is none of these makes it no program.
 SIGNS = "\n !*+-0123456789:<=abcdefghijklmnopqrstuvwxyz"
 
 
 class Program:
-    """A program's text, its statements by their lines, and the lines that stand in no block."""
+    """A program's text, its rows and statements by their lines, and the lines that stand in no block."""
 
-    def __init__(self, text, statements, top):
+    def __init__(self, text, rows, statements, top):
         self.text = text
+        self.rows = rows
         self.statements = statements
         self.top = top
+
+    def all_lines(self):
+        """The numbers of all lines."""
+        return list(range(len(self.statements)))
 
     def depth(self):
         """How deep blocks stand in one another, 0 if there are none."""
         return max([len(statement.headers) for statement in self.statements], default=0)
+
+    def text_alone(self, lines):
+        """The text of the program with these lines alone."""
+        rows = self.rows_alone(self.top, lines)
+        return bytes_of("".join([row + "\n" for row in rows]))
+
+    def rows_alone(self, block, lines):
+        """The rows that are left of a block if these lines alone are kept."""
+        rows = []
+        for line in block:
+            if line in lines:
+                statement = self.statements[line]
+                rows.append(self.rows[line])
+                rows.extend(self.rows_alone(statement.block, lines))
+                below_else = self.rows_alone(statement.otherwise, lines)
+                if below_else != []:
+                    rows.append(INDENT * len(statement.headers) + ELSE)
+                    rows.extend(below_else)
+        return rows
 
 
 class BlockBuilder:
@@ -68,6 +93,7 @@ class BlockBuilder:
 def read_program(text):
     """The program that the bytes of a text tell."""
     builder = BlockBuilder()
+    rows = []
     for row in rows_of(text):
         bare = row.lstrip(" ")
         blanks = len(row) - len(bare)
@@ -77,9 +103,10 @@ def read_program(text):
             builder.add_else(blanks // 2)
         else:
             builder.add_statement(blanks // 2, read_statement(bare))
+            rows.append(row)
     if builder.awaits:
         raise NotAProgram()
-    return Program(list(text), builder.statements, builder.top)
+    return Program(list(text), rows, builder.statements, builder.top)
 
 
 def rows_of(text):
@@ -96,3 +123,8 @@ def rows_of(text):
     if rows[-1] != "":
         raise NotAProgram()
     return rows[:-1]
+
+
+def bytes_of(signs):
+    """The bytes of the signs of a text."""
+    return [ord(sign) for sign in signs]

@@ -1,7 +1,7 @@
 """Calls that are told in one list of whole numbers, and their answers in another."""
 
 from valueoriginsdesk.desk import Desk
-from valueoriginsdesk.refusals import NoSuchLine, NotAnInput, NotAProgram
+from valueoriginsdesk.refusals import NoSuchLine, NoSuchStep, NotAnInput, NotAProgram, NotSomeLines
 
 PROGRAM = 0
 SHOW = 1
@@ -9,6 +9,11 @@ INPUTS = 2
 RUN = 3
 VALUES = 4
 TRACE = 5
+STEP = 6
+INFO = 7
+ONLY = 8
+RUNONLY = 9
+SAME = 10
 SIZE = 11
 
 
@@ -61,8 +66,12 @@ def answer_or_refusal(desk, reader):
         return [-1]
     except NotAnInput:
         return [-2]
+    except NoSuchStep:
+        return [-2]
     except NoSuchLine:
         return [-3]
+    except NotSomeLines:
+        return [-4]
 
 
 def answer_next(desk, reader):
@@ -80,6 +89,17 @@ def answer_next(desk, reader):
         return desk.tell_row(reader.take_number())
     if call == TRACE:
         return desk.tell_trace()
+    if call == STEP:
+        return desk.tell_step(reader.take_number())
+    if call == INFO:
+        return desk.tell_statement(reader.take_number())
+    if call == ONLY:
+        return desk.tell_text_alone(reader.take_row())
+    if call == RUNONLY:
+        return desk.tell_account_alone(reader.take_row())
+    if call == SAME:
+        line = reader.take_number()
+        return desk.tell_same(line, reader.take_row())
     if call == SIZE:
         return desk.tell_size()
     raise UnknownCall()

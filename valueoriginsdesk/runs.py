@@ -24,10 +24,11 @@ class Step:
 
 
 class Run:
-    """A run, from its beginning as far as it has come."""
+    """A run of some lines alone, from its beginning as far as it has come."""
 
-    def __init__(self, statements, numbers):
+    def __init__(self, statements, lines, numbers):
         self.statements = statements
+        self.lines = lines
         self.left = list(numbers)
         self.outcome = ENDED
         self.steps = []
@@ -37,11 +38,12 @@ class Run:
         self.last_read = 0
 
     def do_block(self, block):
-        """Do the lines of a block, until the run is stopped or long."""
+        """Do those lines of a block that are kept, until the run is stopped or long."""
         for line in block:
             if self.outcome != ENDED:
                 return
-            self.do_line(line)
+            if line in self.lines:
+                self.do_line(line)
 
     def do_line(self, line):
         """Do one line, with what stands in its blocks."""
@@ -100,6 +102,13 @@ class Run:
             return [self.last_read]
         return [self.setters.get(name, 0) for name in statement.names]
 
+    def uses_of(self, step):
+        """The names that a step uses, as its origins stand; the empty one is the input's."""
+        statement = self.statements[step.line]
+        if statement.kind == READ:
+            return [""]
+        return list(statement.names)
+
     def take_value(self, statement):
         """The value of the statement's step; a read takes it from the input."""
         if statement.kind == READ:
@@ -141,8 +150,8 @@ def reckon(left, sign, right):
     return int(left != right)
 
 
-def run_program(program, numbers):
-    """The run of a program on an input, as far as it goes."""
-    run = Run(program.statements, numbers)
+def run_lines(program, lines, numbers):
+    """The run of these lines of a program alone on an input, as far as it goes."""
+    run = Run(program.statements, lines, numbers)
     run.do_block(program.top)
     return run
